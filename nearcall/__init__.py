@@ -1,0 +1,1 @@
+"""Nearcall: halls of walls, and crowds called about in them."""
