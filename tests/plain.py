@@ -4,6 +4,15 @@ import itertools
 import random
 
 
+def caught(kind, asked, *things):
+    """The refusal that asking raises."""
+    try:
+        asked(*things)
+    except kind as refusal:
+        return refusal
+    raise AssertionError(f"{kind.__name__} was not raised")
+
+
 def swap(side):
     return side.lower() if side.isupper() else side.upper()
 

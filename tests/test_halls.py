@@ -6,19 +6,12 @@ import unittest
 import plain
 from nearcall.errors import Alike, BadBar, BadRoom, BadSide, BadWalls, Fixed
 from nearcall.halls import WIDEST, Hall, chain, other
+from plain import caught
 
 TWELVE = "abcdefghijkl"
 # A row of walls, each small side of which forces the next one.
 LADDER = [one + two.upper() for one, two in itertools.pairwise(TWELVE)]
 NO_WALLS = ("", "abcdefghijklm", "ba", "aa", "abb", "aBc", "A", "a b", "a1", "a\n", "-", "acb", " ")
-
-
-def caught(kind, asked, *things):
-    try:
-        asked(*things)
-    except kind as refusal:
-        return refusal
-    raise AssertionError(f"{kind.__name__} was not raised")
 
 
 class Sides(unittest.TestCase):

@@ -7,18 +7,11 @@ import plain
 from nearcall.errors import BadPart, BadRoom, Empty
 from nearcall.halls import Hall
 from nearcall.parts import first_room, has, is_empty, near, rooms_of, shut
+from plain import caught
 
 TWELVE = "abcdefghijkl"
 NO_PARTS = ("d", "ad", "ba", "aa", "aA", "Aa", "aab", "abb", "bA", "acb", "a b", " ", "a\n", "1", ".a", "abcd", "a" * 4000)
 NO_ROOMS = ("", "ab", "aBc", "abcd", "bac", "abd", "abc\n", "a" * 4000)
-
-
-def caught(kind, asked, *things):
-    try:
-        asked(*things)
-    except kind as refusal:
-        return refusal
-    raise AssertionError(f"{kind.__name__} was not raised")
 
 
 def hall():
