@@ -1,13 +1,13 @@
-"""What the document says of halls and parts, worked out by trying everything, to hold the program against."""
+"""What the document says, worked out by trying everything or step by step, to hold the program against."""
 
 import itertools
 import random
 
 
-def caught(kind, asked, *things):
+def caught(kind, asked, *things, **named):
     """The refusal that asking raises."""
     try:
-        asked(*things)
+        asked(*things, **named)
     except kind as refusal:
         return refusal
     raise AssertionError(f"{kind.__name__} was not raised")
@@ -117,3 +117,99 @@ def small_halls():
     for at, walls in enumerate(("abc", "cmz", "abcd", "fhkz", "abcde")):
         found += some_halls(walls, 12, at)
     return found
+
+
+def side_texts(walls):
+    """All texts of one side of each wall, in any order of the walls."""
+    for order in itertools.permutations(walls):
+        for sides in itertools.product(*[(wall, wall.upper()) for wall in order]):
+            yield "".join(sides)
+
+
+def into(walls, turn, side):
+    """What a side goes over into."""
+    met = turn[walls.index(side.lower())]
+    return met if side.islower() else swap(met)
+
+
+def keeps(walls, forced, turn):
+    """Whether by a text of one side of each wall a side forces another just where what they go over into does."""
+    sides = rising_sides(walls)
+    return all((two in forced[one]) == (into(walls, turn, two) in forced[into(walls, turn, one)])
+               for one in sides for two in sides)
+
+
+def turns(walls, bars):
+    forced = forced_map(walls, bars)
+    return [turn for turn in side_texts(walls) if keeps(walls, forced, turn)]
+
+
+def by_letter(sides):
+    return "".join(sorted(sides, key=str.lower))
+
+
+def turning_halls():
+    """Walls and bars of halls that have turns more than the one that turns nothing."""
+    return [("a", ()), ("ab", ()), ("abc", ()), ("abc", ("aB",)), ("abc", ("ab", "ac", "bc")), ("bdfh", ("bD", "dF", "fH")),
+            ("abcd", ("aB", "cD")), ("abcd", ("AB", "BC", "CD", "AD")), ("abcd", ("ab", "CD"))]
+
+
+def called(walls, bars, part, room):
+    """The nearest room of a part, by trying all rooms; there must be just one."""
+    found = [goal for goal in rooms(walls, bars) if all(side in goal for side in part)]
+    steps = [sum(one != two for one, two in zip(room, goal)) for goal in found]
+    (nearest,) = [goal for goal, many in zip(found, steps) if many == min(steps)]
+    return nearest
+
+
+def stepped(walls, bars, step, room):
+    """The room behind a call or a turn."""
+    if step[0] == "call":
+        return called(walls, bars, step[1], room)
+    return by_letter(into(walls, step[1], side) for side in room)
+
+
+def one_by_one(row, book):
+    """The calls and turns of a row, one by one, as often as they are done."""
+    for step in row[1]:
+        if step[0] == "times":
+            for _ in range(step[1]):
+                yield from one_by_one(step[2], book)
+        elif step[0] == "row":
+            yield from one_by_one(book[step[1]], book)
+        else:
+            yield step
+
+
+def entry_choices(walls, wall):
+    return ["=" + wall, "=" + wall.upper(), *rising_sides(walls)]
+
+
+def stands_behind(wall, entry, room):
+    """On which side of a wall one from a room stands behind an entry, as [9] says."""
+    if entry[0] == "=":
+        return entry[1]
+    return wall if entry in room else wall.upper()
+
+
+def led(walls, entries, room):
+    return "".join(stands_behind(wall, entry, room) for wall, entry in zip(walls, entries))
+
+
+def entries_of(walls, leads):
+    """The entries that lead each room as a dict does; there must be just one for each wall."""
+    found = []
+    for at, wall in enumerate(walls):
+        (entry,) = [entry for entry in entry_choices(walls, wall)
+                    if all(stands_behind(wall, entry, room) == leads[room][at] for room in leads)]
+        found.append(entry)
+    return tuple(found)
+
+
+def some_steps(walls, bars, many, chance):
+    """Some calls to parts that aren't empty, and turns."""
+    found = rooms(walls, bars)
+    open_parts = [part for part in parts(walls) if any(all(side in room for side in part) for room in found)]
+    known = turns(walls, bars)
+    return [("call", chance.choice(open_parts)) if chance.random() < 0.4 else ("turn", chance.choice(known))
+            for _ in range(many)]

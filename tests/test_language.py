@@ -93,6 +93,23 @@ class Files(unittest.TestCase):
                     for alias in node.names:
                         self.assertIn(alias.name, defined)
 
+    def test_no_files_import_one_another(self):
+        needs = {path.stem: {node.module.split(".")[1] for node in tree.body if isinstance(node, ast.ImportFrom)}
+                 for path, _, tree in self.each()}
+        while needs:
+            free = [name for name in needs if not needs[name] & set(needs)]
+            self.assertNotEqual(free, [], needs)
+            for name in free:
+                del needs[name]
+
+    def test_errors_are_made_where_they_are_raised(self):
+        for _, _, tree in self.each():
+            for node in ast.walk(tree):
+                if isinstance(node, ast.Raise):
+                    self.assertIsInstance(node.exc, ast.Call)
+                    self.assertIsInstance(node.exc.func, ast.Name)
+                    self.assertEqual(node.exc.keywords, [])
+
     def test_imports_stand_on_top(self):
         for _, _, tree in self.each():
             kinds = [isinstance(node, ast.ImportFrom) for node in tree.body[1:]]
@@ -108,9 +125,18 @@ class Files(unittest.TestCase):
                 names += bound_names(node) if isinstance(node, ast.ImportFrom) else []
                 names += [node.name] if isinstance(node, (ast.FunctionDef, ast.ClassDef)) else []
                 if isinstance(node, ast.Assign):
-                    ast.literal_eval(node.value)
+                    self.check_plain(node.value)
                     names += [target.id for target in node.targets]
             self.assertEqual(len(names), len(set(names)))
+
+    def check_plain(self, node):
+        """A plain value, or a power that is written out."""
+        if isinstance(node, ast.BinOp):
+            self.assertIsInstance(node.op, ast.Pow)
+            self.check_plain(node.left)
+            self.assertIn(ast.literal_eval(node.right), range(65))
+        else:
+            ast.literal_eval(node)
 
     def test_statements(self):
         for _, _, tree in self.each():
