@@ -48,11 +48,16 @@ def shut(hall, part):
     return by_walls(hall.walls(), all_forced_by(hall, part))
 
 
+def written_over(written, room):
+    """A room with the sides of a shut text written over it: where a call to the part leads from there."""
+    return "".join([other(side) if other(side) in written else side for side in room])
+
+
 def near(hall, part, room):
-    """The nearest room of a part: a room with the sides of the shut text written over it."""
+    """The nearest room of a part."""
     written = shut(hall, part)
     check_room(hall, room)
-    return "".join([other(side) if other(side) in written else side for side in room])
+    return written_over(written, room)
 
 
 def has(hall, part, room):

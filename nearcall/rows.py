@@ -20,10 +20,15 @@ def is_word(thing, letters, fewest, most):
     return all([sign in letters for sign in thing])
 
 
-def is_many(thing):
+def is_name(thing):
+    return is_word(thing, SMALL, 1, LONGEST_NAME)
+
+
+def is_number(thing, most):
+    """Whether a thing is a number from 0 to the most."""
     if not isinstance(thing, int) or isinstance(thing, bool):
         return False
-    return 0 <= thing <= MOST_TIMES
+    return 0 <= thing <= most
 
 
 def is_tuple_of(thing, many):
@@ -38,12 +43,12 @@ def is_plain_step(step):
         return is_word(step[1], LETTERS, 0, MOST_SIDES)
     if step[0] == "turn":
         return is_word(step[1], LETTERS, 1, MOST_SIDES)
-    return step[0] == "row" and is_word(step[1], SMALL, 1, LONGEST_NAME)
+    return step[0] == "row" and is_name(step[1])
 
 
 def is_group_head(step):
     """Whether a thing is a group, whatever stands in the place of its row."""
-    return is_tuple_of(step, 3) and step[0] == "times" and is_many(step[1])
+    return is_tuple_of(step, 3) and step[0] == "times" and is_number(step[1], MOST_TIMES)
 
 
 def left_behind_step(step, deep, left):

@@ -1,5 +1,6 @@
 """What the document says, worked out by trying everything or step by step, to hold the program against."""
 
+import copy
 import itertools
 import random
 
@@ -206,10 +207,101 @@ def entries_of(walls, leads):
     return tuple(found)
 
 
+def roomy_parts(walls, bars):
+    """All parts that aren't empty."""
+    found = rooms(walls, bars)
+    return [part for part in parts(walls) if any(all(side in room for side in part) for room in found)]
+
+
 def some_steps(walls, bars, many, chance):
     """Some calls to parts that aren't empty, and turns."""
-    found = rooms(walls, bars)
-    open_parts = [part for part in parts(walls) if any(all(side in room for side in part) for room in found)]
-    known = turns(walls, bars)
-    return [("call", chance.choice(open_parts)) if chance.random() < 0.4 else ("turn", chance.choice(known))
+    roomy, known = roomy_parts(walls, bars), turns(walls, bars)
+    return [("call", chance.choice(roomy)) if chance.random() < 0.4 else ("turn", chance.choice(known))
             for _ in range(many)]
+
+
+def some_calls(walls, bars, many, chance):
+    """Some calls, a list of parts; mostly to parts of few sides, some perhaps twice."""
+    roomy = sorted(roomy_parts(walls, bars), key=len)
+    return [roomy[min(chance.randrange(len(roomy)), chance.randrange(len(roomy)))] for _ in range(many)]
+
+
+def shut_text(walls, bars, part):
+    """All sides that a part's sides force, by walls."""
+    forced = forced_map(walls, bars)
+    return by_letter({met for side in part for met in forced[side]})
+
+
+def leads(walls, bars, calls):
+    """For each call a dict from each room to the one that it leads to."""
+    return [{room: called(walls, bars, part, room) for room in rooms(walls, bars)} for part in calls]
+
+
+def reached(moves, room):
+    """All rooms to which rows of moves, dicts from rooms to rooms, lead."""
+    found = {room}
+    wave = [room]
+    while wave:
+        wave = sorted({move[one] for one in wave for move in moves} - found)
+        found.update(wave)
+    return found
+
+
+def all_done(moves, found):
+    """All that rows of moves do with all rooms: the tuples of the rooms behind."""
+    known = {tuple(found)}
+    wave = [tuple(found)]
+    while wave:
+        wave = sorted({tuple(move[room] for room in behind) for behind in wave for move in moves} - known)
+        known.update(wave)
+    return known
+
+
+def one_behind_another(moves, places, room):
+    for place in places:
+        room = moves[place][room]
+    return room
+
+
+def kept_orders(many, pairs):
+    """All orders of so many places that keep the pairs."""
+    return [order for order in itertools.permutations(range(many))
+            if all(order.index(one) < order.index(two) for one, two in pairs)]
+
+
+def some_pairs(many, count, chance):
+    """Some pairs that close no ring."""
+    order = chance.sample(range(many), many)
+    chosen = [sorted(chance.sample(range(many), 2)) for _ in range(count if many > 1 else 0)]
+    return [(order[one], order[two]) for one, two in chosen]
+
+
+def all_stories(moves, room, goal):
+    """The tuples of lost places of all stories."""
+    return [lost for lost in subsets(range(len(moves)))
+            if one_behind_another(moves, [at for at in range(len(moves)) if at not in lost], room) == goal]
+
+
+def spoil(told):
+    """Changes each list and dict in what was told."""
+    if isinstance(told, (list, tuple)):
+        for thing in told:
+            spoil(thing)
+    if isinstance(told, list):
+        told.reverse()
+        told.append("spoilt")
+    if isinstance(told, dict):
+        told["spoilt"] = True
+
+
+def told_again(asked):
+    """What is told when asked again, behind what was told at first was spoilt; both must be the same."""
+    first = asked()
+    kept = copy.deepcopy(first)
+    spoil(first)
+    again = asked()
+    if again != kept:
+        raise AssertionError(f"{again!r} was told behind {kept!r}")
+    return again
+
+
