@@ -1,6 +1,7 @@
 """What the document says, worked out by trying everything or step by step, to hold the program against."""
 
 import copy
+import functools
 import itertools
 import random
 
@@ -305,3 +306,179 @@ def told_again(asked):
     return again
 
 
+
+
+class Refused(Exception):
+    """A refusal of the plain crowd: the class's name, then its values."""
+
+
+def check(holds, *told):
+    if not holds:
+        raise Refused(*told)
+
+
+def check_row_steps(walls, bars, row, book, begun, ended):
+    """[12] step by step, the steps of a name but once and those of a group once."""
+    forced = forced_map(walls, bars)
+    for step in row[1]:
+        if step[0] == "call":
+            check(step[1] in parts(walls), "BadPart")
+            sides = {met for side in step[1] for met in forced[side]}
+            torn = [wall for wall in walls if wall in sides and swap(wall) in sides]
+            check(not torn, "Empty", *torn[:1])
+        elif step[0] == "turn":
+            check(step[1] in known_turns(walls, tuple(bars)), "BadTurn")
+        elif step[0] == "times":
+            check_row_steps(walls, bars, step[2], book, begun, ended)
+        else:
+            check(step[1] in book, "NoRow", step[1])
+            check(step[1] not in begun, "Ring", step[1])
+            if step[1] not in ended:
+                check_row_steps(walls, bars, book[step[1]], book, begun + [step[1]], ended)
+                ended.append(step[1])
+
+
+@functools.lru_cache(maxsize=None)
+def known_turns(walls, bars):
+    return turns(walls, bars)
+
+
+def is_plain_name(name):
+    return 1 <= len(name) <= 8 and all("a" <= sign <= "z" for sign in name)
+
+
+class PlainState:
+    """Walls, bars, walkers with their rooms and blames, rows; deeds change it, one call and turn after the other."""
+
+    def __init__(self, walls, bars):
+        self.walls, self.bars, self.walkers, self.book = walls, sorted(bars), {}, {}
+
+    def done(self, deed, number):
+        """Refuses or does a deed of the step of this number, upon what it stands on itself."""
+        getattr(self, "do_" + deed[0])(number, *deed[1:])
+
+    def do_come(self, number, name, room):
+        check(is_plain_name(name), "BadName")
+        check(name not in self.walkers, "Taken", name)
+        check(len(self.walkers) < 8, "Full", 8)
+        check(room in rooms(self.walls, self.bars), "BadRoom")
+        self.walkers[name] = [room, {wall: -1 for wall in self.walls}]
+
+    def do_go(self, number, name):
+        check(name in self.walkers, "NoWalker", name)
+        del self.walkers[name]
+
+    def do_tell(self, number, name, row):
+        check(is_plain_name(name), "BadName")
+        check(name in self.book or len(self.book) < 8, "Full", 8)
+        check(isinstance(row, tuple) and len(row) == 2 and row[0] == "steps", "BadTree")
+        self.book[name] = row
+
+    def do_untell(self, number, name):
+        check(name in self.book, "NoRow", name)
+        del self.book[name]
+
+    def do_lead(self, number, row, names):
+        for name in names:
+            check(name in self.walkers, "NoWalker", name)
+        check(isinstance(row, tuple) and len(row) == 2 and row[0] == "steps", "BadTree")
+        check_row_steps(self.walls, self.bars, row, self.book, [], [])
+        for name in set(names or self.walkers):
+            self.lead_one(self.walkers[name], number, row)
+
+    def lead_one(self, walker, number, row):
+        for step in one_by_one(row, self.book):
+            walker[0] = stepped(self.walls, self.bars, step, walker[0])
+            if step[0] == "call":
+                walker[1].update({wall: number for wall in shut_text(self.walls, self.bars, step[1]).lower()})
+            else:
+                walker[1] = {into(self.walls, step[1], wall).lower(): walker[1][wall] for wall in self.walls}
+
+    def take_hall(self, walls, bars):
+        """Another hall, where it is let by and nobody stands in the way."""
+        refused = refusal(walls, bars)
+        if refused is not None:
+            raise Refused(*refused)
+        for name in sorted(self.walkers):
+            check(self.walkers[name][0] in rooms(walls, bars), "InWay", name)
+        self.walls, self.bars = walls, sorted(bars)
+
+    def do_bar(self, number, bar):
+        check(bar in possible_bars(self.walls) and bar not in self.bars, "BadBar", 0)
+        self.take_hall(self.walls, self.bars + [bar])
+
+    def do_unbar(self, number, bar):
+        check(bar in self.bars, "NoBar")
+        self.bars.remove(bar)
+
+    def do_put(self, number, wall, bars):
+        small = len(wall) == 1 and "a" <= wall <= "z"
+        check(small and wall not in self.walls and len(self.walls) < 12, "BadWalls")
+        walls = "".join(sorted(self.walls + wall))
+        for at, bar in enumerate(bars):
+            own = bar in possible_bars(walls) and wall in bar.lower()
+            check(own and bar not in bars[:at], "BadBar", at)
+        for walker in self.walkers.values():
+            walker[0] = by_letter(walker[0] + wall)
+            walker[1][wall] = -1
+        self.take_hall(walls, self.bars + list(bars))
+
+    def do_merge(self, number, wall):
+        check(wall in list(self.walls), "NoWall")
+        check(len(self.walls) > 1, "BadWalls")
+        walls = "".join(one for one in self.walls if one != wall)
+        found = rooms(self.walls, self.bars)
+        self.bars = sorted(bar for bar in possible_bars(walls)
+                           if not any(bar[0] in room and bar[1] in room for room in found))
+        self.walls = walls
+        for walker in self.walkers.values():
+            walker[0] = "".join(side for side in walker[0] if side.lower() != wall)
+            del walker[1][wall]
+
+    def told(self):
+        """All that can be asked of how it stands."""
+        blames = {name: tuple(walker[1][wall] for wall in self.walls) for name, walker in self.walkers.items()}
+        return (self.walls, self.bars, {name: walker[0] for name, walker in self.walkers.items()}, blames, self.book)
+
+
+class PlainCrowd:
+    """The steps alone: how it stands is worked out from the beginning each time."""
+
+    def __init__(self, walls, bars):
+        self.first = PlainState(walls, bars)
+        self.steps, self.undone = [], []
+
+    def behind(self, steps):
+        state = copy.deepcopy(self.first)
+        for number, deeds in enumerate(steps):
+            for deed in deeds:
+                state.done(deed, number)
+        return state
+
+    def all_of(self, deeds):
+        self.behind(self.steps + [deeds])
+        self.steps.append(deeds)
+        self.undone = []
+
+    def undo(self):
+        check(self.steps, "NothingLeft")
+        self.undone.append(self.steps.pop())
+        return self.undone[-1]
+
+    def redo(self):
+        check(self.undone, "NothingLeft")
+        self.steps.append(self.undone.pop())
+        return self.steps[-1]
+
+    def strike(self, at):
+        check(0 <= at < len(self.steps), "NoStep", at)
+        for later in range(at + 1, len(self.steps)):
+            try:
+                self.behind(self.steps[:at] + self.steps[at + 1:later + 1])
+            except Refused:
+                raise Refused("Hangs", later) from None
+        del self.steps[at]
+        self.undone = []
+
+    def told(self):
+        return self.behind(self.steps).told()

@@ -41,6 +41,8 @@ def bound_names(tree):
             found.add(node.arg)
         elif isinstance(node, ast.alias):
             found.add(node.asname or node.name)
+        elif isinstance(node, ast.ExceptHandler) and node.name:
+            found.add(node.name)
         elif isinstance(node, ast.Name) and isinstance(node.ctx, ast.Store):
             found.add(node.id)
     return found
@@ -119,22 +121,30 @@ class Files(unittest.TestCase):
 
     def test_module_level(self):
         for _, _, tree in self.each():
-            names = []
+            names, functions = [], []
             for node in tree.body[1:]:
                 self.assertIsInstance(node, (ast.ImportFrom, ast.FunctionDef, ast.ClassDef, ast.Assign))
                 names += bound_names(node) if isinstance(node, ast.ImportFrom) else []
                 names += [node.name] if isinstance(node, (ast.FunctionDef, ast.ClassDef)) else []
+                functions += [node.name] if isinstance(node, ast.FunctionDef) else []
                 if isinstance(node, ast.Assign):
-                    self.check_plain(node.value)
+                    self.check_plain(node.value, functions)
                     names += [target.id for target in node.targets]
             self.assertEqual(len(names), len(set(names)))
 
-    def check_plain(self, node):
-        """A plain value, or a power that is written out."""
+    def check_plain(self, node, functions):
+        """A plain value, a power that is written out, or a dict of plain values and of functions above it."""
         if isinstance(node, ast.BinOp):
             self.assertIsInstance(node.op, ast.Pow)
-            self.check_plain(node.left)
+            self.check_plain(node.left, functions)
             self.assertIn(ast.literal_eval(node.right), range(65))
+        elif isinstance(node, ast.Dict):
+            for key, value in zip(node.keys, node.values):
+                self.check_plain(key, [])
+                self.assertNotIsInstance(value, (ast.Dict, ast.List))
+                self.check_plain(value, functions)
+        elif isinstance(node, ast.Name):
+            self.assertIn(node.id, functions)
         else:
             ast.literal_eval(node)
 
