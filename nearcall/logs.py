@@ -45,8 +45,8 @@ class Log:
 
     def seen(self, room):
         """The walker is seen in a room."""
-        check_room(self.place, room)
         ahead, calls, behind = self.stretches()[-1]
+        # It refuses what is no room, too.
         if fewest_lost(self.place, calls, ahead, room) is None:
             raise NoStory()
         self.marks.append(("seen", room))

@@ -313,6 +313,7 @@ class PutAndMerge(Case):
         self.assertEqual(made.hall().walls(), TWELVE)
         self.assertEqual(made.where("ann"), "A" + TWELVE[1:])
         self.refused(made, BadWalls, ("put", "m", ()))
+        self.refused(made, BadWalls, ("put", "m", ("?",)))
         self.refused(made, BadWalls, ("put", "a", ("?",)))
         made.merge("f")
         made.put("m")

@@ -191,6 +191,10 @@ class Refused(unittest.TestCase):
             self.check_order([pair], 0)
             self.check_order([(0, 1), (0, 1), (1, 2), pair, (0, 0)], 3)
 
+    def test_pairs_of_more_or_fewer_things(self):
+        for pair in ((), (0,), (0, 1, 2), [0, 1, 1]):
+            self.check_order([(0, 1), pair], 1)
+
     def test_pairs_of_a_place_and_itself(self):
         self.check_order([(2, 2)], 0)
         self.check_order([(0, 1), (1, 1)], 1)
